@@ -28,7 +28,7 @@ func TestTurnedRoundTwice(t *testing.T) {
 	}
 }
 
-// within is a number of at most so many bits, with either sign.
+// within is a number of any length that is at most so far from 0, with either sign.
 func within(source *rand.Rand, most api.Q) api.Q {
 	n := api.Q(source.Int63n(int64(most)+1)) >> source.Intn(34)
 	if source.Intn(2) == 0 {

@@ -30,11 +30,13 @@ func whole(n api.Q) *big.Int { return big.NewInt(int64(n)) }
 
 // bound is a number in bounds; what wasn't is kept.
 func (r *reckoner) bound(n *big.Int) *big.Int {
-	for _, end := range []int64{top, low} {
-		if n.Cmp(big.NewInt(end))*n.Sign() > 0 && n.Sign()*big.NewInt(end).Sign() > 0 {
-			r.met = true
-			return big.NewInt(end)
-		}
+	if n.Cmp(whole(top)) > 0 {
+		r.met = true
+		return whole(top)
+	}
+	if n.Cmp(whole(low)) < 0 {
+		r.met = true
+		return whole(low)
 	}
 	return n
 }
