@@ -4,6 +4,7 @@ import (
 	"math"
 	"math/rand"
 	"slices"
+	"strings"
 	"testing"
 
 	"alidade/api"
@@ -448,19 +449,21 @@ func TestUpdateEdges(t *testing.T) {
 	}
 }
 
-// TestUpdateAlone: P5.4: a bound that is met at one step alone is told, whichever step it is. (The others' bounds aren't met alone where a number is taken: those of y, of k times r and of the last sum go with others, and h P is P h'.)
+// TestUpdateAlone: P5.4: a bound that is met at one step alone is told, whichever step it is. (Some go with others: h P has the numbers of P h', and k times r is at a bound only where that times k turned is, or where r is beyond it.)
 func TestUpdateAlone(t *testing.T) {
 	for _, x := range []struct {
-		step       string
+		steps      string
 		a          api.Track
 		h          api.Mat
 		z, r, gate api.Q
 	}{
 		{"h X", track([]api.Q{-3489660928, 35184372088832}, 0, -40960, -40960, 1374389534720), row(-3023656976384, -75497472), -1179648, 1, 1},
+		{"y", track([]api.Q{top}, one), row(one), top + 1, one, 0},
 		{"h P h'", track([]api.Q{0, -16}, 0, 939524096, 939524096, 4026531840), row(100663296, -8589934592), -262144, 2, 1},
 		{"s", track([]api.Q{704}, 52776558133248), row(-18874368), -16777216, 6047313952768, 5},
 		{"y y", track([]api.Q{-7340032, 67108864}, 0, -1610612736, -1610612736, 3), row(-2621440, 524288), 3298534883328, 1048576, top},
 		{"gate s", track([]api.Q{196608}, 28), row(-4096), -34359738368, 61572651155456, 19173962},
+		{"h P, P h'", track([]api.Q{0, 0, 0}, 1<<44, 9<<42, 0, 9<<42, 7<<43, 9<<42, 0, 9<<42, 1<<44), row(one, 0, one), 0, 1<<45 - 1, 0},
 		{"k", track([]api.Q{0}, 35184372088832), row(2), 6144, 1, 33554433},
 		{"k", track([]api.Q{14680064, 14680064}, 32768, 10995116277760, 10995116277760, 33554432), row(1, 12), 1792, 1, 1}, // the first one alone
 		{"k", track([]api.Q{-64, -12582912}, 12288, -6597069766656, -6597069766656, 1236950581248), row(-15, 0), -4608, 1, 16777217},
@@ -472,15 +475,17 @@ func TestUpdateAlone(t *testing.T) {
 		{"i P", track([]api.Q{134217728, 0, 3407872}, 0, 786432, 6442450944, 786432, 327680, -30786325577728, 6442450944, -30786325577728, 3023656976384), row(0, 0, 9437184), 245760, 1, 4},
 		{"i P i'", track([]api.Q{-176, 0}, 0, 17179869184, 17179869184, 0), row(0, 57344), 0, 60, 1},
 		{"k r k'", track([]api.Q{0, 32, 0}, 448, -34359738368, 67108864, -34359738368, 61572651155456, 0, 67108864, 0, 0), row(2097152, 0, -27262976), 14, 29360128, 1},
+		{"s, k r", track([]api.Q{0}, 0), row(one), 0, top + 1, 0},
+		{"P", track([]api.Q{0, 0}, 3, 275585521, 275585521, top), row(-433, 0), 0, 9077304, 0},
 	} {
 		var r reckoner
 		want, taken := r.update(x.a, x.h, x.z, x.r, x.gate)
-		if !taken || !slices.Equal(r.steps, []string{x.step}) {
-			t.Fatalf("%s: taken %t, bounds at %q", x.step, taken, r.steps)
+		if !taken || strings.Join(r.steps, ", ") != x.steps {
+			t.Errorf("%s: taken %t, bounds at %q", x.steps, taken, r.steps)
 		}
 		got, taken, out, e := kalman.Update(x.a, x.h, x.z, x.r, x.gate)
 		if e != api.OK || !taken || !out || !equal(got, want) {
-			t.Errorf("%s: %v, %t, %t, %d, not %v", x.step, got, taken, out, e, want)
+			t.Errorf("%s: %v, %t, %t, %d, not %v", x.steps, got, taken, out, e, want)
 		}
 	}
 }
